@@ -1,0 +1,1 @@
+"""Splitnames: names from a grid of splitters."""

@@ -1,0 +1,77 @@
+"""The package as a checkout holds it: its files, what they import, and that they run alone."""
+
+import ast
+import doctest
+import pathlib
+import shutil
+import subprocess
+import sys
+import tempfile
+import unittest
+
+ROOT = pathlib.Path(__file__).resolve().parent.parent
+PACKAGE = ROOT / "splitnames"
+LIBRARY = {"heapq", "math", "itertools", "collections"}
+
+# Runs in an empty folder with nothing but the standard library and the package.
+ALONE = """
+import sys
+sys.path.insert(0, sys.argv[1])
+from splitnames.errors import SplitError
+from splitnames.grid import cell_of, most_names, name_of
+from splitnames.splitters import is_outcome, open_results, outcome_schedule, run_splitter
+assert cell_of(name_of(3, 4)) == (3, 4) and most_names(3) == 6
+assert run_splitter(2, outcome_schedule(["stop", "down"])) == ["stop", "down"]
+assert is_outcome(["stop"]) and open_results(1, []) == [["stop"]]
+assert not [path for path in sys.path if "site-packages" in path]
+print("ran alone")
+"""
+
+
+def package_files():
+    return [path for path in sorted(PACKAGE.rglob("*")) if "__pycache__" not in path.parts]
+
+
+class Checkout(unittest.TestCase):
+    def test_package_runs_alone(self):
+        with tempfile.TemporaryDirectory() as folder:
+            shutil.copytree(PACKAGE, pathlib.Path(folder) / "splitnames", ignore=shutil.ignore_patterns("__pycache__"))
+            told = subprocess.run([sys.executable, "-I", "-S", "-B", "-c", ALONE, folder], cwd=folder,
+                                  capture_output=True, text=True)
+        self.assertEqual((told.returncode, told.stdout, told.stderr), (0, "ran alone\n", ""))
+
+    def test_package_holds_only_python_files(self):
+        for path in package_files():
+            with self.subTest(path=path.name):
+                self.assertEqual(path.suffix, ".py")
+                self.assertFalse(path.name.startswith("test"))
+        self.assertIn(PACKAGE / "__init__.py", package_files())
+
+    def test_imports(self):
+        for path in package_files():
+            for node in ast.walk(ast.parse(path.read_text())):
+                with self.subTest(path=path.name):
+                    self.assertNotIsInstance(node, ast.Import)
+                    if isinstance(node, ast.ImportFrom):
+                        self.assertEqual(node.level, 0)
+                        self.assertIn(node.module.split(".")[0], LIBRARY | {"splitnames"})
+
+    def test_sizes_and_signs(self):
+        for path in package_files():
+            text = path.read_text()
+            with self.subTest(path=path.name):
+                self.assertLessEqual(len(text.splitlines()), 399)
+                self.assertLessEqual(max(map(len, text.splitlines())), 120)
+                self.assertEqual([sign for sign in text if sign != "\n" and not " " <= sign <= "~"], [])
+                for node in ast.walk(ast.parse(text)):
+                    if isinstance(node, ast.FunctionDef):
+                        self.assertLessEqual(node.end_lineno - node.lineno + 1, 40)
+
+    def test_examples_of_the_readme(self):
+        told = doctest.testfile(str(ROOT / "README.md"), module_relative=False)
+        self.assertEqual(told.failed, 0)
+        self.assertGreater(told.attempted, 0)
+
+
+if __name__ == "__main__":
+    unittest.main()
