@@ -1,17 +1,40 @@
 """Checks of arguments that several files share."""
 
-from splitnames.errors import InvalidCount
+from splitnames.errors import InvalidCount, InvalidNames
+
+MOST_NAMES = 8
+
+
+def is_integer(value):
+    """Return whether any value is an integer."""
+    # For Python True and False are integers, for the document they are not.
+    return isinstance(value, int) and not isinstance(value, bool)
 
 
 def is_integer_within(value, least, greatest):
     """Return whether any value is an integer from least to greatest."""
-    # For Python True and False are integers, for the document they are not.
-    if isinstance(value, bool) or not isinstance(value, int):
-        return False
-    return least <= value <= greatest
+    return is_integer(value) and least <= value <= greatest
 
 
 def check_count(count, greatest):
     """Raise InvalidCount if the count is not an integer from 1 to greatest."""
     if not is_integer_within(count, 1, greatest):
         raise InvalidCount(f"a count is an integer from 1 to {greatest}")
+
+
+def is_name_list(value):
+    """Return whether any value is a name list."""
+    if not isinstance(value, list) or not 1 <= len(value) <= MOST_NAMES:
+        return False
+    last = -1
+    for name in value:
+        if not is_integer(name) or name <= last:
+            return False
+        last = name
+    return True
+
+
+def check_names(names):
+    """Raise InvalidNames if the value is not a name list."""
+    if not is_name_list(names):
+        raise InvalidNames(f"a name list is an ascending list of 1 to {MOST_NAMES} different integers from 0 on")

@@ -39,6 +39,10 @@ class SplitterRun:
         self.done = [0] * count
         self.results = [None] * count
 
+    def can_step(self, process):
+        """Return whether any value is a process that has not finished."""
+        return is_integer_within(process, 0, len(self.results) - 1) and self.results[process] is None
+
     def step(self, process):
         """Perform the next step of a process that has not finished."""
         self.results[process] = self.splitter.perform(process, self.done[process])
@@ -88,18 +92,21 @@ def open_results(count, schedule):
     return [_open_results_of(run, process) for process in range(count)]
 
 
+def perform_schedule(run, schedule):
+    """Perform the steps of a schedule in a run, of one splitter or of the grid."""
+    if not isinstance(schedule, list):
+        raise InvalidSchedule("a schedule is a list")
+    for process in schedule:
+        if not run.can_step(process):
+            raise InvalidSchedule("an item of the schedule is not a process that has not finished")
+        run.step(process)
+
+
 def _run_after(count, schedule):
     """Return the SplitterRun in which the schedule has been performed."""
     check_count(count, GREATEST_COUNT)
-    if not isinstance(schedule, list):
-        raise InvalidSchedule("a schedule is a list")
     run = SplitterRun(count)
-    for process in schedule:
-        if not is_integer_within(process, 0, count - 1):
-            raise InvalidSchedule("an item of the schedule is not a process")
-        if run.results[process] is not None:
-            raise InvalidSchedule(f"the process {process} has finished already")
-        run.step(process)
+    perform_schedule(run, schedule)
     return run
 
 

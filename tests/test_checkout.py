@@ -23,6 +23,12 @@ from splitnames.splitters import is_outcome, open_results, outcome_schedule, run
 assert cell_of(name_of(3, 4)) == (3, 4) and most_names(3) == 6
 assert run_splitter(2, outcome_schedule(["stop", "down"])) == ["stop", "down"]
 assert is_outcome(["stop"]) and open_results(1, []) == [["stop"]]
+from splitnames.runs import Run, names_after
+from splitnames.sets import is_possible, is_routing, routing_for, stuck_diagonal
+from splitnames.texts import read_names, read_run, show_names, show_run
+assert Run.read(show_run(2, [0] * 4)).names_now == names_after(*read_run("2 0,0,0,0")) == [0, None]
+assert is_possible([1, 2]) and stuck_diagonal([1]) == 0 and is_routing([0], routing_for([0]))
+assert read_names(show_names([1, 2, 4])) == [1, 2, 4]
 assert not [path for path in sys.path if "site-packages" in path]
 print("ran alone")
 """

@@ -3,18 +3,14 @@ import itertools
 import unittest
 
 import reference
+import wrong
 from splitnames import splitters
 from splitnames.errors import InvalidCount, InvalidOutcome, InvalidSchedule, TooLarge
 from splitnames.splitters import is_outcome, open_results, outcome_schedule, run_splitter
 
 WORDS = ["down", "right", "stop"]
-WRONG_COUNTS = [True, False, None, 0, -1, 41, 10 ** 40, "1", b"1", [1], (1,), {}, [[2]]]
-# Each is wrong for two processes.
-WRONG_SCHEDULES = [
-    None, True, 0, "", "0", b"", (), (0, 0), {}, {0: 0}, range(2),
-    [True], [False], [0, True], [None], ["0"], [[0]], [(0,)], [-1], [2], [0, 1, 2], [10 ** 40],
-    [0, 0, 0, 0, 0], [0, 0, 0, 1, 1, 1], [1] * 5, [0, 0, 0, 1, 1, 0, 1], [0, 0, 0, 0, None],
-]
+# In a splitter a process that goes right or down has finished, in the grid it has not.
+WRONG_SCHEDULES = wrong.SCHEDULES + [[0, 0, 0, 1, 1, 1], [0, 0, 0, 1, 1, 0, 1]]
 
 
 def allowed(results):
@@ -79,7 +75,7 @@ class RunSplitter(unittest.TestCase):
                 self.assertEqual(run_splitter(count, schedule), list(results))
 
     def test_wrong_counts(self):
-        for count in WRONG_COUNTS:
+        for count in wrong.COUNTS:
             for schedule in [[], [0], None, [True], (0,)]:
                 with self.subTest(count=count, schedule=schedule):
                     self.assertRaises(InvalidCount, run_splitter, count, schedule)
@@ -196,7 +192,7 @@ class OpenResults(unittest.TestCase):
             self.assertEqual(caught.exception.limit, 5)
 
     def test_count_is_asked_first(self):
-        for count in WRONG_COUNTS:
+        for count in wrong.COUNTS:
             for schedule in [[], None, [True], [-1], [0] * 5]:
                 with self.subTest(count=count, schedule=schedule):
                     self.assertRaises(InvalidCount, open_results, count, schedule)
