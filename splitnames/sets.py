@@ -1,14 +1,9 @@
-"""Which name lists are possible, and how the processes get there.
-
-A row is the tuple of the numbers of processes that enter the cells of a diagonal,
-in the order of their names. A stage belongs to a diagonal: a dict from each row in
-which the processes can come to the next diagonal to one way there, the tuple of
-(entered, right, down) for each cell of this diagonal.
-"""
+"""Which name lists are possible, and how the processes get there."""
 
 from splitnames.checks import check_names, is_integer
 from splitnames.errors import Impossible
 from splitnames.grid import cell_of, name_of
+from splitnames.stages import stages_of, ways_on
 
 
 def is_possible(names):
@@ -46,57 +41,17 @@ def is_routing(names, value):
         # Processes go on to greater names only, so all that come here are known by now.
         if coming.pop(last, 0) != entered or entered == 0:
             return False
-        if (right, down) not in _ways_on(entered, last in names):
+        if (right, down) not in ways_on(entered, last in names):
             return False
         _send_on(coming, last, right, down)
     # If nobody is on the way, as many have stopped as there are names: one in each listed cell.
     return coming == {}
 
 
-def _ways_on(entered, listed):
-    """Return each (right, down) in which the processes that enter a cell can go on."""
-    if listed:
-        return [(right, entered - 1 - right) for right in range(entered)]
-    if entered == 0:
-        return [(0, 0)]
-    return [(right, entered - right) for right in range(1, entered)]
-
-
 def _stages_of(names):
-    """Return the stages from diagonal 0 on, up to the first one that is empty."""
-    stages = []
-    rows = [(len(names),)]
-    # A cell of diagonal t is entered by at most count - t processes, and one alone cannot go on.
-    for diagonal in range(len(names)):
-        listed = [name_of(right, diagonal - right) in names for right in range(diagonal + 1)]
-        stages.append(_stage_after(rows, listed))
-        rows = list(stages[-1])
-        if rows == []:
-            break
-    return stages
-
-
-def _stage_after(rows, listed):
-    """Return the stage of the diagonal that is entered in one of the rows."""
-    stage = {}
-    for row in rows:
-        for later, way in _ways_from(row, listed).items():
-            if later not in stage:
-                stage[later] = way
-    return stage
-
-
-def _ways_from(row, listed):
-    """Return the stage of the diagonal that is entered in this row."""
-    found = {(0,): ()}
-    for entered, is_listed in zip(row, listed):
-        longer = {}
-        for later, way in found.items():
-            for right, down in _ways_on(entered, is_listed):
-                # Who goes down meets in the next diagonal who goes right from the cell before.
-                longer[later[:-1] + (later[-1] + down, right)] = way + ((entered, right, down),)
-        found = longer
-    return found
+    # A cell of diagonal t is entered by at most as many processes as names less t, and
+    # one alone cannot go on; so who has not stopped in these stages is stuck in them.
+    return stages_of(len(names), names, ways_on)
 
 
 def _stuck_in(stages):

@@ -1,5 +1,6 @@
 """The splitter, the grid and the rules of point [12] written down a second time, to hold the program against."""
 
+import itertools
 import random
 
 START = (None, False)
@@ -117,16 +118,15 @@ def grid_play(count, schedule):
     return names, places, events
 
 
-def ends_of_the_grid(count):
-    """All lists of names that the processes have after schedules in which all have finished."""
+def moments_of_the_grid(count):
+    """All lists of names that the processes have after some schedule, None for those that have not finished."""
     # A state is (shared variables of the cells, place of each process, steps of each in its cell).
     first = ((), ((0, 0),) * count, (0,) * count)
     found = {first}
     waiting = [first]
-    ends = set()
+    told = set()
     for shared, places, done in waiting:
-        if set(done) == {4}:
-            ends.add(tuple(label(cell) for cell in places))
+        told.add(tuple(label(cell) if steps == 4 else None for cell, steps in zip(places, done)))
         for process in range(count):
             if done[process] < 4:
                 cells = dict(shared)
@@ -138,7 +138,12 @@ def ends_of_the_grid(count):
                 if state not in found:
                     found.add(state)
                     waiting.append(state)
-    return ends
+    return told
+
+
+def ends_of_the_grid(count):
+    """All lists of names that the processes have after schedules in which all have finished."""
+    return {names for names in moments_of_the_grid(count) if None not in names}
 
 
 # Name lists and routings by points [11] to [14], cell by cell in the order of the names.
@@ -187,14 +192,22 @@ def possible_by_outcomes(count):
     ends = set()
     # A state is (names so far, cells that are still to be run with the processes that enter them).
     waiting = [((), (((0, 0), count),))]
+    found = set(waiting)
     for names, coming in waiting:
         if coming == ():
             ends.add(names)
         else:
             for state in run_first_cell(names, coming):
-                if state not in waiting:
+                if state not in found:
+                    found.add(state)
                     waiting.append(state)
     return sorted(list(names) for names in ends)
+
+
+def parts_of(lists):
+    """All lists that are a part of one of the lists, as tuples."""
+    return {part for names in lists for many in range(1, len(names) + 1)
+            for part in itertools.combinations(names, many)}
 
 
 def run_first_cell(names, coming):

@@ -29,6 +29,14 @@ from splitnames.texts import read_names, read_run, show_names, show_run
 assert Run.read(show_run(2, [0] * 4)).names_now == names_after(*read_run("2 0,0,0,0")) == [0, None]
 assert is_possible([1, 2]) and stuck_diagonal([1]) == 0 and is_routing([0], routing_for([0]))
 assert read_names(show_names([1, 2, 4])) == [1, 2, 4]
+from splitnames.schedules import gives_names, schedule_for
+from splitnames.counting import count_sets, nth_set, set_number, walk_sets
+from splitnames.taken import can_be_taken, full_sets, least_count, next_names
+from splitnames.desk import Desk
+assert gives_names([2, 1], schedule_for([2, 1])) and nth_set(3, set_number([1, 4, 5])) == [1, 4, 5]
+assert count_sets(2) == len(list(walk_sets(2))) == 3 and list(full_sets(3, [2, 3])) == [[1, 2, 3], [2, 3, 4]]
+assert can_be_taken(4, [3, 5]) and least_count([3, 5]) == 4 and next_names(2, [0]) == [1, 2]
+assert [Desk().execute(row) for row in ["run 2", "plan 0"]] == ["ok", "0,0,0,0"]
 assert not [path for path in sys.path if "site-packages" in path]
 print("ran alone")
 """
